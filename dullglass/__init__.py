@@ -1,0 +1,1 @@
+"""Dullglass: glasses that tell of the world, dulled, and compared in every decision."""
