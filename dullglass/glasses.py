@@ -86,6 +86,15 @@ def signs(glass):
     return len(glass[1][0])
 
 
+def column(rows, place):
+    return [row[place] for row in rows]
+
+
+# The numbers of the one times those of the other, pair by pair, summed.
+def paired(one, other):
+    return sum([number * beyond for number, beyond in zip(one, other)])
+
+
 def clear(many):
     check_stands(many)
     return glass_of(1, [one_sign(stand, many) for stand in range(many)])

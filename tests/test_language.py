@@ -16,6 +16,9 @@ ArithmeticError OverflowError RuntimeError NotImplementedError AttributeError St
 METHODS = set("""append clear copy count endswith extend find get index insert isalnum isalpha isdigit islower isspace
 isupper items join keys ljust lower lstrip partition pop remove replace reverse rfind rjust rpartition rsplit rstrip
 setdefault split splitlines startswith strip update upper values zfill bit_length""".split())
+PYTHONS = {name for kind in (str, int, list, tuple, dict, set, bytes) for name in dir(kind)}
+FREE_METHODS = METHODS | {"add", "discard"}
+FREE_VALUES = set("count index title find get join lower upper split strip copy add".split())
 DOUBLE = {"__init__", "__eq__", "__repr__", "__str__", "__len__"}
 STATEMENTS = (ast.Assign, ast.AugAssign, ast.If, ast.While, ast.For, ast.Return, ast.Break, ast.Continue, ast.Pass,
               ast.Raise, ast.Try, ast.Expr, ast.FunctionDef, ast.ClassDef, ast.ImportFrom)
@@ -133,9 +136,37 @@ def faults_of_names(node):
     return [] if name in DOUBLE or re.fullmatch("[A-Za-z][A-Za-z0-9_]*", name) else ["L12"]
 
 
+def faults_of_locals(tree):
+    """A parameter or a local called like a class or an import of its file."""
+    taken = {node.name for node in tree.body if isinstance(node, ast.ClassDef)}
+    taken |= {alias.name for node in tree.body if isinstance(node, ast.ImportFrom) for alias in node.names}
+    found = []
+    for node in ast.walk(tree):
+        if isinstance(node, ast.Name) and isinstance(node.ctx, ast.Store) and node.id in taken:
+            found.append(("L15", node.lineno))
+        if isinstance(node, ast.arg) and node.arg in taken:
+            found.append(("L15", node.lineno))
+    return found
+
+
+def methods_and_values(tree):
+    methods = {part.name for node in tree.body if isinstance(node, ast.ClassDef) for part in node.body
+               if isinstance(part, ast.FunctionDef)} - DOUBLE
+    values = {node.attr for node in ast.walk(tree)
+              if isinstance(node, ast.Attribute) and isinstance(node.ctx, ast.Store)}
+    return methods, values
+
+
+def faults_of_members(tree):
+    methods, values = methods_and_values(tree)
+    found = [("L26", 0) for name in methods if name in PYTHONS - FREE_METHODS]
+    found += [("L26", 0) for name in values if name in PYTHONS - FREE_VALUES]
+    return found + [("L18", 0) for name in methods & values]
+
+
 def faults_of_text(text):
     tree = ast.parse(text)
-    found = faults_of_signs(text) + faults_of_top(tree)
+    found = faults_of_signs(text) + faults_of_top(tree) + faults_of_locals(tree) + faults_of_members(tree)
     docstring = tree.body[0] if ast.get_docstring(tree) else None
     defined = {node.name for node in ast.walk(tree) if isinstance(node, ast.FunctionDef)}
     for node in ast.walk(tree):
@@ -190,6 +221,12 @@ class TestLanguage(unittest.TestCase):
             for name in done:
                 left.pop(name)
 
+    def test_no_name_is_a_method_here_and_a_value_there(self):
+        both = [methods_and_values(ast.parse(text_of(name))) for name in files()]
+        methods = {name for one, other in both for name in one}
+        values = {name for one, other in both for name in other}
+        self.assertEqual(methods & values, set())
+
     def test_faults_are_seen(self):
         for text, rule in [
             ("import os\n", "L6"), ("from fractions import Fraction\n", "L2"), ("x = 1 / 2\n", "L7"),
@@ -199,6 +236,12 @@ class TestLanguage(unittest.TestCase):
             ("def f(x):\n    x.sort()\n", "L25"), ("# a type\n", "L17"), ("def f(x):\n    return x is f\n", "L20"),
             ("x = '%'\n", "L27"), ("def f(n):\n    return 2 ** n\n", "L27"), ("def _f():\n    pass\n", "L12"),
             ("def f():\n" + "    pass\n" * 40, "L10"), ("print(1)\n", "L3"), ("class A:\n    x = 1\n", "L5"),
+            ("from dullglass.shares import share\ndef f(share):\n    return share\n", "L15"),
+            ("from dullglass.shares import share\ndef f():\n    share = 1\n    return share\n", "L15"),
+            ("class A:\n    pass\ndef f():\n    return [A for A in (1, 2)]\n", "L15"),
+            ("class A:\n    def __init__(self):\n        self.items = 1\n", "L26"),
+            ("class A:\n    def sort(self):\n        return 1\n", "L26"),
+            ("class A:\n    def told(self):\n        self.told = 1\n", "L18"),
         ]:
             self.assertIn(rule, [fault[0] for fault in faults_of_text(text)], text)
 
