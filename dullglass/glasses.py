@@ -74,6 +74,20 @@ def divided(row, common):
     return tuple([number // common for number in row])
 
 
+# Of rows of shares, each row coming to 1. The bottom is the least that all shares have in common, so
+# nothing above 1 divides all numbers.
+def table_of_shares(rows):
+    bottom = 1
+    for row in rows:
+        for part in row:
+            bottom = bottom * part[1] // divisor(bottom, part[1])
+    return (bottom, tuple([over_bottom(row, bottom) for row in rows]))
+
+
+def over_bottom(row, bottom):
+    return tuple([part[0] * (bottom // part[1]) for part in row])
+
+
 def share_at(glass, stand, sign):
     return share(glass[1][stand][sign], glass[0])
 

@@ -64,3 +64,10 @@ def times(one, other):
 def below(one, other):
     check_shares(one, other)
     return one[0] * other[1] < other[0] * one[1]
+
+
+def summed(some):
+    total = (0, 1)
+    for one in some:
+        total = added(total, one)
+    return total

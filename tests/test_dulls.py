@@ -9,25 +9,13 @@ from dullglass.errors import NoFit, NoShare, TooMany
 from dullglass.glasses import blind, clear, dulling_of, glass_of, is_dulling, is_glass, share_at, signs, stands
 from dullglass.shares import share
 
-from helpers import BIG, a_dulling, a_glass, fractions_of, small_glasses, table_of
+from helpers import (
+    BIG, a_dulling, a_glass, fractions_of, product, showing_itself, showing_one, small_glasses, table_of)
 from test_glasses import TableCase
 from test_shares import strange
 
 LONG = 10 ** 60 - 1
 EYE = glass_of(6, [[3, 3, 0], [0, 2, 4]])
-
-
-def showing_itself(many):
-    return dulling_of(1, [[1 if new == old else 0 for new in range(many)] for old in range(many)])
-
-
-def showing_one(many):
-    return dulling_of(1, [[1]] * many)
-
-
-def product(rows, table):
-    columns = list(zip(*table))
-    return [[sum(a * b for a, b in zip(row, column)) for column in columns] for row in rows]
 
 
 def wide(many_stands, many_signs):
