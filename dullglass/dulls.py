@@ -2,7 +2,7 @@
 
 from dullglass.errors import NoFit, NoShare, TooMany
 from dullglass.glasses import FEWEST_STANDS, MOST_SIGNS, column, lowest_table, paired, signs, stands
-from dullglass.shares import is_share, is_whole
+from dullglass.shares import is_part, is_whole
 
 
 def dulled(glass, dulling):
@@ -39,7 +39,7 @@ def both_seen(row, beyond):
 
 
 def mixed(part, one, other):
-    if not is_share(part) or not 0 <= part[0] <= part[1]:
+    if not is_part(part):
         raise NoShare("two glasses are mixed by a share from 0 to 1")
     check_alike_stands(one, other)
     check_not_too_many(signs(one) + signs(other))

@@ -41,6 +41,10 @@ def is_share(thing):
     return thing[1] >= 1 and divisor(thing[0], thing[1]) == 1
 
 
+def is_part(thing):
+    return is_share(thing) and 0 <= thing[0] <= thing[1]
+
+
 def check_shares(one, other):
     if not is_share(one) or not is_share(other):
         raise NoShare("a share is a tuple of a top and a bottom in lowest terms, the bottom 1 or more")

@@ -12,7 +12,7 @@ from dullglass.shares import share
 from helpers import (
     BIG, a_dulling, a_glass, fractions_of, product, showing_itself, showing_one, small_glasses, table_of)
 from test_glasses import TableCase
-from test_shares import strange
+from test_shares import OUTSIDE, no_shares, strange
 
 LONG = 10 ** 60 - 1
 EYE = glass_of(6, [[3, 3, 0], [0, 2, 4]])
@@ -244,10 +244,7 @@ class TestMixed(DullCase):
             self.assertEqual(told, table_of(wanted))
 
     def test_no_share_from_nought_to_one(self):
-        outside = [(-1, 1), (2, 1), (-1, 2), (3, 2), (-1, LONG), (LONG + 1, LONG), (-LONG, 1), (LONG, 1)]
-        none = [(2, 4), (0, 2), (1, 0), (0, 0), (-1, -2), (True, 1), (1, True), (1,), (1, 2, 3), [1, 2], 0, 1]
-        things = [thing for thing in strange() if type(thing) is not tuple or thing != (1, 2)]
-        for part in outside + none + things:
+        for part in OUTSIDE + no_shares():
             self.refused(NoShare, mixed, part, clear(2), EYE)
 
     def test_twelve_signs_and_more(self):

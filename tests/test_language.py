@@ -31,6 +31,10 @@ methodcaller os quit setattr super type vars sys format format_map""".split())
 WORDS = re.compile(r"\b(type|typing|typing_extensions|enum|Enum|IntEnum|StrEnum|Flag|IntFlag|Generic|Protocol|ABC"
                    r"|ABCMeta|namedtuple|NamedTuple|TypedDict|TYPE_CHECKING|abstractmethod)\b"
                    r"|dataclass|overload|contextmanager")
+WALKED = {"zip", "enumerate", "reversed", "range", "items", "keys", "values"}
+WALKERS = {"list", "tuple", "dict", "sorted", "sum", "any", "all", "enumerate", "zip", "min", "max", "join"}
+KEYWORDS = {"sorted": {"key", "reverse"}, "min": {"key", "default"}, "max": {"key", "default"}, "sum": {"start"},
+            "enumerate": {"start"}, "zip": {"strict"}}
 FILE_NAME = re.compile(r"(__init__|__main__|[a-z][a-z0-9_]*)\.py")
 BAD_FILES = {"test", "tests", "testing", "site", "conftest", "sitecustomize", "usercustomize"}
 
@@ -164,9 +168,60 @@ def faults_of_members(tree):
     return found + [("L18", 0) for name in methods & values]
 
 
+def called(node):
+    """The name by which something is called; None of what is no call."""
+    if not isinstance(node, ast.Call):
+        return None
+    return node.func.id if isinstance(node.func, ast.Name) else getattr(node.func, "attr", None)
+
+
+def faults_of_calls(tree):
+    """L22 and L23: keywords, Python's own names kept as values, and what is to be walked on the spot."""
+    found = []
+    parents = {child: node for node in ast.walk(tree) for child in ast.iter_child_nodes(node)}
+    for node in ast.walk(tree):
+        parent = parents.get(node)
+        name = called(node)
+        if name and {part.arg for part in node.keywords} - KEYWORDS.get(name, set()):
+            found.append(("L22", node.lineno))
+        if name in WALKED and not (isinstance(parent, (ast.For, ast.comprehension)) and parent.iter is node):
+            # In zip each of its arguments is walked.
+            first = called(parent) in WALKERS and (parent.args[:1] == [node] or called(parent) == "zip")
+            if not first or called(parent) in ("min", "max") and len(parent.args) > 1:
+                found.append(("L23", node.lineno))
+        if isinstance(node, ast.Name) and node.id in OWN and isinstance(getattr(builtins, node.id), type(len)):
+            if not (isinstance(parent, ast.Call) and parent.func is node) and not isinstance(parent, ast.keyword):
+                found.append(("L22", node.lineno))
+    return found
+
+
+def faults_of_forms(tree):
+    """L13, L19, L21, L24 and L28, narrower than they are: none of what they hold down is written at all."""
+    found = []
+    for node in ast.walk(tree):
+        if isinstance(node, ast.Set) or called(node) in ("set", "frozenset"):
+            found.append(("L24", node.lineno))
+        if isinstance(node, ast.ExceptHandler):
+            named = {part.id for part in ast.walk(node.type) if isinstance(part, ast.Name)}
+            if named & {"Exception", "TypeError", "ValueError", "LookupError", "IndexError"}:
+                found.append(("L19", node.lineno))
+        if isinstance(node, ast.Raise) and (not isinstance(node.exc, ast.Call) or called(node.exc) in dir(builtins)):
+            found.append(("L19", node.lineno))
+        if isinstance(node, ast.AnnAssign) or getattr(node, "annotation", None) or getattr(node, "returns", None):
+            found.append(("L21", node.lineno))
+        if isinstance(node, ast.FunctionDef) and node.name in DOUBLE - {"__init__"}:
+            found.append(("L28", node.lineno))
+        if isinstance(node, ast.FunctionDef) and node.name == "__init__":
+            if any(isinstance(part, ast.Return) for part in ast.walk(node)):
+                found.append(("L28", node.lineno))
+    lines = [node.lineno for node in ast.walk(tree) if isinstance(node, ast.Lambda)]
+    return found + [("L13", line) for line in set(lines) if lines.count(line) > 1]
+
+
 def faults_of_text(text):
     tree = ast.parse(text)
     found = faults_of_signs(text) + faults_of_top(tree) + faults_of_locals(tree) + faults_of_members(tree)
+    found += faults_of_calls(tree) + faults_of_forms(tree)
     docstring = tree.body[0] if ast.get_docstring(tree) else None
     defined = {node.name for node in ast.walk(tree) if isinstance(node, ast.FunctionDef)}
     for node in ast.walk(tree):
@@ -242,6 +297,16 @@ class TestLanguage(unittest.TestCase):
             ("class A:\n    def __init__(self):\n        self.items = 1\n", "L26"),
             ("class A:\n    def sort(self):\n        return 1\n", "L26"),
             ("class A:\n    def told(self):\n        self.told = 1\n", "L18"),
+            ("def f(x):\n    return sorted(x, reverse=True)[0].split(sep=' ')\n", "L22"),
+            ("def f(x):\n    y = len\n    return y(x)\n", "L22"), ("def f(x):\n    y = zip(x, x)\n    return y\n", "L23"),
+            ("def f(x):\n    return x.values()\n", "L23"), ("def f(x):\n    return max(range(3), x)\n", "L23"),
+            ("def f(x):\n    y = {1, 2}\n    return y\n", "L24"), ("def f(x):\n    return set(x)\n", "L24"),
+            ("def f(x):\n    try:\n        return x()\n    except Exception:\n        return 1\n", "L19"),
+            ("def f(x):\n    raise ValueError('told')\n", "L19"), ("def f(x: int):\n    return x\n", "L21"),
+            ("def f(x):\n    y: int = x\n    return y\n", "L21"), ("def f(x) -> int:\n    return x\n", "L21"),
+            ("class A:\n    def __len__(self):\n        return 1\n", "L28"),
+            ("class A:\n    def __init__(self):\n        return None\n", "L28"),
+            ("def f(x):\n    return [lambda y: y, lambda y: x]\n", "L13"),
         ]:
             self.assertIn(rule, [fault[0] for fault in faults_of_text(text)], text)
 

@@ -38,6 +38,16 @@ def strange():
             {1, 2}, frozenset(), range(3), iter([1]), object(), Odd(), int, len, float("nan"), float("inf")]
 
 
+def no_shares():
+    wrong = [(2, 4), (0, 2), (1, 0), (0, 0), (1, -2), (-1, -2), (1, True), (True, 1), (1, 2, 3), (1, "2"), (None, 1),
+             0, 1]
+    return wrong + [thing for thing in strange() if type(thing) is not tuple or thing != (1, 2)]
+
+
+# Shares, but none from 0 to 1.
+OUTSIDE = [(-1, 1), (2, 1), (-1, 2), (3, 2), (-1, LONG), (LONG + 1, LONG), (LONG, LONG - 1), (-LONG, 1), (LONG, 1)]
+
+
 class ShareCase(unittest.TestCase):
     def is_share(self, told):
         self.assertIs(type(told), tuple)
@@ -113,10 +123,8 @@ class TestRefused(ShareCase):
             self.refused(share, one, other)
 
     def test_no_share_where_shares_are_reckoned(self):
-        wrong = [(1, 0), (1, -2), (2, 4), (0, 2), (1, True), (True, 1), (1,), (1, 2, 3), [1, 2], (1, "2"), (None, 1)]
-        things = [thing for thing in strange() if type(thing) is not tuple or thing != (1, 2)]
         for ask in (added, taken, times, below):
-            for thing in things + wrong:
+            for thing in no_shares():
                 self.refused(ask, thing, (1, 2))
                 self.refused(ask, (1, 2), thing)
 
